@@ -31,6 +31,11 @@ def must_be_done(design, core, first, second):
     check_design(design)
     check_core(core)
     check_places(core, first, second)
+    return must_wait(design, core, first, second)
+
+
+def must_wait(design, core, first, second):
+    """Whether, of two places of a core in their order, the first must be done ahead of the second."""
     return is_kept(design, core, first, second) or waits_for_copied(design, core, first, second)
 
 

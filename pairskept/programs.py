@@ -23,6 +23,11 @@ def is_number(value, greatest):
     return isinstance(value, int) and not isinstance(value, bool) and 0 <= value <= greatest
 
 
+def is_word(value):
+    """Whether a value is a word of memory."""
+    return is_number(value, GREATEST["write"][1])
+
+
 def is_instruction(value):
     """Whether a value is an instruction."""
     if not isinstance(value, tuple) or len(value) == 0 or not isinstance(value[0], str):

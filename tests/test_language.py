@@ -16,6 +16,9 @@ INTERFACE = {
     ],
     "programs": ["is_instruction"],
     "designs": ["is_design", "must_be_done", "all_designs"],
+    "hands": ["events_behind", "has_ended", "told_by"],
+    "outcomes": ["outcomes", "plain_outcomes", "row_for", "count_rows"],
+    "compares": ["below", "alike", "shows", "tests", "normal", "normals", "first_test"],
 }
 LIBRARY = {
     "heapq": {"heappush", "heappop", "heapify", "heapreplace", "heappushpop"},
