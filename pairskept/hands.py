@@ -28,6 +28,12 @@ def told_by(design, program, row):
     return outcome_of(steps, program, state)
 
 
+def cells_behind(design, program, row):
+    """The words of the cells behind a row."""
+    steps = checked_steps(design, program)
+    return state_behind_row(steps, row)[1]
+
+
 def checked_steps(design, program):
     """The steps of a program on a design; raises BadDesign or BadProgram."""
     check_design(design)

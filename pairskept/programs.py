@@ -62,6 +62,12 @@ def check_program(value):
         total += len(core)
 
 
+def is_small_enough(cores):
+    """Whether some cores have no more instructions, each one and in all, than a program may have."""
+    sizes = [len(core) for core in cores]
+    return max(sizes) <= MOST_IN_CORE and sum(sizes) <= MOST_IN_ALL
+
+
 def is_reading(instruction):
     """Whether an instruction reads a cell."""
     return instruction[0] == "read"

@@ -19,7 +19,12 @@ INTERFACE = {
     "hands": ["events_behind", "has_ended", "told_by"],
     "outcomes": ["outcomes", "plain_outcomes", "row_for", "count_rows"],
     "compares": ["below", "alike", "shows", "tests", "normal", "normals", "first_test"],
+    "fences": ["is_plain", "strange", "fenced", "fewest_fences"],
+    "texts": ["write_program", "read_program", "write_design", "read_design"],
+    "desks": ["Desk"],
 }
+# The methods that the interface lists for a class, each defined in the class itself (L5).
+METHODS_OF = {("desks", "Desk"): ["run", "undo", "row"]}
 LIBRARY = {
     "heapq": {"heappush", "heappop", "heapify", "heapreplace", "heappushpop"},
     "math": {"gcd", "lcm", "isqrt", "comb", "perm", "factorial"},
@@ -37,7 +42,8 @@ BUILTINS = set(
 METHODS = set(
     "append clear copy count endswith extend find get index insert isalnum isalpha isdigit islower isspace isupper"
     " items join keys ljust lower lstrip partition pop remove replace reverse rfind rjust rpartition rsplit rstrip"
-    " setdefault split splitlines startswith strip update upper values zfill bit_length add discard sort".split()
+    " setdefault split splitlines startswith strip update upper values zfill bit_length add discard sort"
+    " isascii".split()
 )
 DUNDERS = {"__init__", "__eq__", "__repr__", "__str__", "__len__", "__iter__", "__call__"}
 NEVER_NAMES = {"register", "mro", "elements", "open", "input", "law", "version_info", "with_traceback", "add_note"}
@@ -172,6 +178,12 @@ class Bindings(unittest.TestCase):
             tree = dict(trees())[module + ".py"]
             defined = [node.name for node in tree.body if isinstance(node, (ast.FunctionDef, ast.ClassDef))]
             self.assertLessEqual(set(names), set(defined), module)
+
+    def test_l5_methods_of_the_interface(self):
+        for (module, name), methods in METHODS_OF.items():
+            found = [node for node in dict(trees())[module + ".py"].body if isinstance(node, ast.ClassDef)]
+            body = next(node.body for node in found if node.name == name)
+            self.assertLessEqual(set(methods), {node.name for node in body if isinstance(node, ast.FunctionDef)}, name)
 
 
 class Statements(unittest.TestCase):

@@ -1,5 +1,6 @@
 """Values of every kind that a caller may pass, for the tests of wrong arguments."""
 
+from pairskept.desks import Desk
 from pairskept.errors import BadDesign, BadProgram
 
 
@@ -18,4 +19,5 @@ def odd_values():
         None, True, False, -1, 10 ** 30, -10 ** 30, "", "rr", "fence", "rr wr", [], ["rr"], [("fence",)], {},
         {"rr": True}, {"rr": {"ww": [1]}}, endless, (None,), (True,), (0,), ("",), ("RR",), ((),) * 99, ([],), ({},),
         (("fence",), None), deep_tuple(), BadDesign("x"), BadProgram(None), (BadDesign("x"),),
+        Desk((), ((),)), (Desk((), ((),)),),
     ]
